@@ -60,6 +60,24 @@ func TestTable(t *testing.T) {
 	}
 }
 
+// P1.1: whichever call is the first one, the table is there.
+func TestFirstCall(t *testing.T) {
+	for name, call := range map[string]func() uint32{
+		"Sum":    func() uint32 { return Sum([]byte("123456789")) },
+		"Update": func() uint32 { return Update(Sum([]byte("1")), []byte("23456789")) },
+		"Table":  func() uint32 { return Table(1) - 0x77073096 + 3421780262 },
+		"Seal": func() uint32 {
+			s := Seal([]byte("123456789"))
+			return uint32(s[9])<<24 | uint32(s[10])<<16 | uint32(s[11])<<8 | uint32(s[12])
+		},
+	} {
+		once, table = sync.Once{}, [256]uint32{}
+		if got := call(); got != 3421780262 {
+			t.Errorf("%s: %d", name, got)
+		}
+	}
+}
+
 // P1.1, and rule 6: the table is there for many goroutines at a time.
 func TestManyGoroutines(t *testing.T) {
 	var group sync.WaitGroup

@@ -449,6 +449,30 @@ func TestOddRecords(t *testing.T) {
 	wantRelay(t, r, 1, 0, true, 0)
 }
 
+// What is no answer isn't one to a record without an Id, either; and only a confirmation is saved.
+func TestNoAnswer(t *testing.T) {
+	d := newDisk(t, 1000)
+	b, _ := entry.Put([]byte("MSH|^~\\&|A"))
+	d.Append("log", b...)
+	r := newRelay(t, d)
+	r.Step(api.Event{Kind: api.Tick})
+	wantRelay(t, r, 1, 0, true, 0)
+	wantStep(t, r, api.Event{Kind: api.Out, Data: framed("xyz", "MSH|^~\\&|A", "MSH|^~\\&|A\rMSA|AX|")}, false)
+	wantRelay(t, r, 1, 0, true, 0)
+	ops := d.Ops()
+	wantStep(t, r, api.Event{Kind: api.Out, Data: framed("MSH|^~\\&|A\rMSA|AE|")}, false)
+	wantRelay(t, r, 1, 0, false, 0)
+	if d.Ops() != ops {
+		t.Errorf("%d changes", d.Ops()-ops)
+	}
+	r.Step(api.Event{Kind: api.Tick, N: 3})
+	wantStep(t, r, api.Event{Kind: api.Out, Data: framed("MSH|^~\\&|A\rMSA|AA")}, false)
+	wantRelay(t, r, 1, 1, false, 0)
+	if d.Ops() != ops+3 {
+		t.Errorf("%d changes", d.Ops()-ops)
+	}
+}
+
 // The config's MaxFrame holds both ways.
 func TestMaxFrame(t *testing.T) {
 	c := config()

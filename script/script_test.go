@@ -162,7 +162,7 @@ func TestNoForm(t *testing.T) {
 		"", " ", "xyz", "begin", "begin ", begin + " ", " " + begin, begin + " 1", "begin 1 1 1 1 1 1", "begin  1 1 1 1 1 1 1", "Begin 1 1 1 1 1 1 1",
 		"begin 1 1 1 1 1 1 x", "begin 01 1 1 1 1 1 1", "begin 1 1 1 1 1 1 1000000000000000000", "begin -0 1 1 1 1 1 1", "begin 1 1 1 1 1 1 1.5",
 		"tick", "tick 05", "tick 1 ", "tick 1000000000000000000", "in", "in 0", "in 0B", "back -", "on -", "gone",
-		"log ", " log", "log 1", "LOG", "kept", "kept ", "kept x", "kept 00", "kept 1 2", "kept  1", "kept -0", "kept 1000000000000000000", "audit ", "audit 1", "audits", "tick 1\n", "log\n", "log\nlog",
+		"log ", " log", "log 1", "LOG", "0", "-1", "-", "kept", "kept ", "kept x", "kept 00", "kept 1 2", "kept  1", "kept -0", "kept 1000000000000000000", "audit ", "audit 1", "audits", "tick 1\n", "log\n", "log\nlog",
 	}
 	bare, full := New(), New()
 	full.Do(begin)

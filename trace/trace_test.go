@@ -209,6 +209,8 @@ func TestParseWrong(t *testing.T) {
 		"tick 5\ngone\ntick 6\ngone":      3,
 		"in -\nback -\ntick 6\nback -0\n": 3,
 		"tick 5\nxyz\ntick 05":            1,
+		"tick 5\n00\n":                    1,
+		"tick 5\n-\n":                     1,
 	} {
 		if l, n, e := Parse(s); len(l) != 0 || n != line || e != api.ErrForm {
 			t.Errorf("%q: %+v, line %d, %v", s, l, n, e)
