@@ -12,18 +12,20 @@ const polynomial uint32 = 3988292384
 // sumSize is how many bytes a sum has.
 const sumSize = 4
 
+// The table is read by Table alone: sums take their rows from row itself, so that no sum hangs on what is assigned while the program runs.
 var (
 	once  sync.Once
 	table [256]uint32
 )
 
-// fill makes the table; it is called by the once alone, so that many goroutines may ask for sums.
+// fill makes the table; it is called by the once alone, so that many goroutines may ask for rows.
 func fill() {
 	for i := range table {
 		table[i] = row(uint8(i))
 	}
 }
 
+// row is a row of the table, worked out anew.
 func row(i uint8) uint32 {
 	x := uint32(i)
 	for range 8 {
@@ -41,10 +43,9 @@ func Sum(b []byte) uint32 { return Update(0, b) }
 
 // Update is the sum of some bytes, of which sum is the sum, and of b behind them.
 func Update(sum uint32, b []byte) uint32 {
-	once.Do(fill)
 	x := ^sum
 	for _, c := range b {
-		x = table[uint8(x)^c] ^ x>>8
+		x = row(uint8(x)^c) ^ x>>8
 	}
 	return ^x
 }

@@ -60,39 +60,79 @@ func TestTable(t *testing.T) {
 	}
 }
 
-// P1.1: whichever call is the first one, the table is there.
-func TestFirstCall(t *testing.T) {
-	for name, call := range map[string]func() uint32{
-		"Sum":    func() uint32 { return Sum([]byte("123456789")) },
-		"Update": func() uint32 { return Update(Sum([]byte("1")), []byte("23456789")) },
-		"Table":  func() uint32 { return Table(1) - 0x77073096 + 3421780262 },
-		"Seal": func() uint32 {
-			s := Seal([]byte("123456789"))
-			return uint32(s[9])<<24 | uint32(s[10])<<16 | uint32(s[11])<<8 | uint32(s[12])
-		},
-	} {
-		once, table = sync.Once{}, [256]uint32{}
-		if got := call(); got != 3421780262 {
-			t.Errorf("%s: %d", name, got)
+// layTable puts rows where the table is, as not made yet or as made; the table is as at the beginning when the test ends.
+func layTable(t *testing.T, rows [256]uint32, made bool) {
+	once, table = sync.Once{}, rows
+	if made {
+		once.Do(func() {})
+	}
+	t.Cleanup(func() { once, table = sync.Once{}, [256]uint32{} })
+}
+
+// P1.1: whichever row is asked for first, the table is there.
+func TestFirstRow(t *testing.T) {
+	for _, i := range []uint8{0, 1, 128, 255} {
+		layTable(t, [256]uint32{}, false)
+		if got, want := Table(i), crc32.IEEETable[i]; got != want {
+			t.Errorf("row %d: %d, not %d", i, got, want)
 		}
 	}
 }
 
-// P1.1, and rule 6: the table is there for many goroutines at a time.
+// The table is made once, and Table tells what stands in it.
+func TestTableReadsArray(t *testing.T) {
+	layTable(t, [256]uint32{0: 1, 7: 77, 255: 5}, true)
+	for i, want := range map[uint8]uint32{0: 1, 7: 77, 8: 0, 255: 5} {
+		if got := Table(i); got != want {
+			t.Errorf("row %d: %d, not %d", i, got, want)
+		}
+	}
+}
+
+// P1.1 to P1.3: no call but Table reads the table, nor has it made: sums are right whatever stands there.
+func TestSumsWithoutTable(t *testing.T) {
+	for _, made := range []bool{false, true} {
+		rows := [256]uint32{3: 3}
+		layTable(t, rows, made)
+		for _, b := range examples() {
+			sum := crc32.ChecksumIEEE(b)
+			if got := Sum(b); got != sum {
+				t.Errorf("sum of %x: %d, not %d", b, got, sum)
+			}
+			if got := Update(Sum(b[:len(b)/2]), b[len(b)/2:]); got != sum {
+				t.Errorf("sum of %x, cut: %d, not %d", b, got, sum)
+			}
+			sealed := append(bytes.Clone(b), byte(sum>>24), byte(sum>>16), byte(sum>>8), byte(sum))
+			if got := Seal(b); !bytes.Equal(got, sealed) {
+				t.Errorf("%x sealed: %x", b, got)
+			}
+			if got, ok := Open(sealed); !ok || !bytes.Equal(got, b) {
+				t.Errorf("%x opened: %x %v", sealed, got, ok)
+			}
+		}
+		if table != rows {
+			t.Error("the table was made")
+		}
+	}
+}
+
+// P1.1, and rule 6: sums and the table are there for many goroutines at a time.
 func TestManyGoroutines(t *testing.T) {
+	layTable(t, [256]uint32{}, false)
 	var group sync.WaitGroup
-	sums := make([]uint32, 16)
+	var sums, rows [16]uint32
 	for i := range sums {
 		group.Add(1)
 		go func() {
 			defer group.Done()
 			sums[i] = Sum([]byte("123456789"))
+			rows[i] = Table(255)
 		}()
 	}
 	group.Wait()
-	for i, sum := range sums {
-		if sum != 3421780262 {
-			t.Errorf("goroutine %d: %d", i, sum)
+	for i := range sums {
+		if sums[i] != 3421780262 || rows[i] != crc32.IEEETable[255] {
+			t.Errorf("goroutine %d: %d, %d", i, sums[i], rows[i])
 		}
 	}
 }
